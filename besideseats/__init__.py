@@ -1,0 +1,1 @@
+"""Besideseats: groups seated in a hall."""
