@@ -194,6 +194,16 @@ class Language(unittest.TestCase):
                 self.assertIn(node.id, bound | BUILTINS)
         self.in_each_file(check)
 
+    def test_no_local_is_called_like_an_import_or_a_class(self):
+        def check(tree):
+            drawn = {alias.asname or alias.name for node in nodes_of(tree, ast.ImportFrom) for alias in node.names}
+            drawn |= {node.name for node in nodes_of(tree, ast.ClassDef)}
+            for node in nodes_of(tree, ast.FunctionDef, ast.Lambda):
+                own = {part.arg for part in nodes_of(node, ast.arg)}
+                own |= {part.id for part in nodes_of(node, ast.Name) if isinstance(part.ctx, ast.Store)}
+                self.assertEqual(own & drawn, set())
+        self.in_each_file(check)
+
     def test_methods_and_values_are_listed_or_own(self):
         trees = [tree_of_file(path) for path in package_files()]
         methods = {name for tree in trees for name in method_names(tree)}
