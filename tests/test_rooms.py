@@ -1,7 +1,7 @@
 import itertools
 import unittest
 
-from besideseats import best, papers, rooms
+from besideseats import best, papers, rooms, trees
 from besideseats.errors import NoSeating, SeatError, TooGreat
 from besideseats.places import places_of
 from besideseats.rooms import first_of_all, open_places, ways
@@ -16,8 +16,9 @@ WITH_FAST = {
     "ways": rooms.ways, "first_of_all": rooms.first_of_all, "paper_of": papers.paper_of,
     "best_of_all": best.best_of_all, "best_of_some": best.best_of_some, "best_worth": best.best_worth,
     "lets_by": lambda hall, groups, fast=None: papers.lets_by(hall, groups, ("stuck", 0), fast),
+    "bounds": lambda hall, groups, fast=None: trees.bounds(hall, groups, 9, ("end",), fast), "tree_of": trees.tree_of,
 }
-BOUNDED = ("first_of_all", "paper_of", "best_of_all", "best_of_some", "best_worth")
+BOUNDED = ("first_of_all", "paper_of", "best_of_all", "best_of_some", "best_worth", "tree_of")
 
 
 class Ways(unittest.TestCase):
@@ -119,7 +120,7 @@ class Fast(unittest.TestCase):
     def test_left_out_none_and_nobody_are_the_same(self):
         for hall, groups in small_cases():
             for name, asked in WITH_FAST.items():
-                if name != "paper_of":
+                if name not in ("paper_of", "tree_of"):
                     answers = (asked(hall, groups), asked(hall, groups, None), asked(hall, groups, (None,) * len(groups)))
                     self.assertEqual(answers, (answers[0],) * 3)
 
@@ -141,6 +142,7 @@ class BeyondTheWays(unittest.TestCase):
         self.assertEqual(best.best_of_all(JUST_HALL, JUST_GROUPS), ((1, 0), (0, 0), (0, 2)))
         self.assertEqual(best.best_of_some(JUST_HALL, JUST_GROUPS), ((1, 0), (0, 0), (0, 2)))
         self.assertEqual(best.best_worth(JUST_HALL, JUST_GROUPS), 18)
+        self.assertIs(trees.bounds(JUST_HALL, JUST_GROUPS, 18, trees.tree_of(JUST_HALL, JUST_GROUPS)), True)
 
     def test_just_two_thousand_without_room(self):
         groups = (group("ann", 1, 1, 6), group("bo", 1, 1, 6), group("cy", 9, 1, 6), group("di", 12, 3))
@@ -148,6 +150,7 @@ class BeyondTheWays(unittest.TestCase):
         self.assertIsNone(first_of_all(JUST_HALL, groups))
         self.assertIsNone(best.best_of_all(JUST_HALL, groups))
         self.assertIs(papers.lets_by(JUST_HALL, groups, papers.paper_of(JUST_HALL, groups)), True)
+        self.assertIs(trees.bounds(JUST_HALL, groups, 0, trees.tree_of(JUST_HALL, groups)), True)
 
     def test_just_above(self):
         self.refused(ABOVE_HALL, ABOVE_GROUPS, 2001)
@@ -170,6 +173,8 @@ class BeyondTheWays(unittest.TestCase):
         self.assertEqual(best.best_of_all(ABOVE_HALL, ABOVE_GROUPS, fast), ((1, 0), (1, 1), (0, 0)))
         self.assertEqual(best.best_of_some(ABOVE_HALL, ABOVE_GROUPS, fast), ((1, 0), (1, 1), (0, 0)))
         self.assertEqual(best.best_worth(ABOVE_HALL, ABOVE_GROUPS, fast), 16)
+        tree = trees.tree_of(ABOVE_HALL, ABOVE_GROUPS, fast)
+        self.assertIs(trees.bounds(ABOVE_HALL, ABOVE_GROUPS, 16, tree, fast), True)
         groups = tuple(group(name) for name in "abcdef")
         all_fast = tuple((k, k) for k in range(6))
         self.assertEqual(first_of_all(("." * 12,) * 6, groups, all_fast), all_fast)
@@ -180,6 +185,10 @@ class BeyondTheWays(unittest.TestCase):
         self.assertEqual(ways(hall, groups), 73 ** 5)
         self.assertIs(papers.lets_by(hall, groups, ("stuck", 5)), True)
         self.assertIs(papers.lets_by(hall, groups, ("stuck", 0)), False)
+        self.assertIs(trees.bounds(hall, groups, 0, ("end",)), True)
+        self.assertIs(trees.bounds(hall, groups, -1, ("end",)), False)
+        self.assertIs(trees.bounds(hall, groups, 0, ("each", 5, (("end",),))), True)
+        self.assertIs(trees.bounds(hall, groups, 0, None), False)
         self.assertEqual(open_places(hall, groups, (None,) * 6, 5), ())
         self.assertEqual(open_places(hall, groups, (None,) * 6, 0), tuple(itertools.product(range(6), range(12))))
 
